@@ -161,6 +161,7 @@ func TestCheckRings(t *testing.T) {
 		chain += fmt.Sprintf("rule %c:%c=%c when always;", 'a'+i, 'a'+i, 'b'+i)
 		overs += fmt.Sprintf("over %c %c;", 'a'+i, 'b'+i)
 	}
+	inputs := "num i 0..1;num j 0..1;num k 0..1;flag l;flag m;flag n;"
 	same := ""
 	for i := 0; i < 8; i++ {
 		same += fmt.Sprintf("rule %c:c=1 when always;", 'a'+i)
@@ -169,6 +170,7 @@ func TestCheckRings(t *testing.T) {
 		{"rule r:c=1+2*c when always;", api.ErrRing, 0}, {"rule r:c=1 when not has c;", api.ErrRing, 0}, {"rule r:c=d when always;rule s:d=1 when always or not(has c);", api.ErrRing, 0}, {"rule r:c=d when always;rule s:d=1 when has e;rule u:e=1 when always;", api.OK, 0},
 		{"rule r:c=1 when always;rule s:d=c when always;rule u:c=0*d when always;", api.ErrRing, 0}, {"rule r:c=d when has e;rule s:d=e when has e;rule u:e=1 when always;", api.OK, 0},
 		{chain + "rule h:h=1 when always;", api.OK, 0}, {chain + "rule h:h=1 when has a;", api.ErrRing, 0}, {chain + "rule h:h=1 when has h;", api.ErrRing, 0}, {chain + "rule h:h=1 when not has e;", api.ErrRing, 0},
+		{inputs + chain + "rule h:h=1 when always;", api.OK, 0}, {inputs + chain + "rule h:h=1 when has h;", api.ErrRing, 0}, {inputs + same + overs, api.OK, 0}, {inputs + same + overs + "over h a;", api.ErrRing, 1}, {inputs + same + "over g h;over h g;", api.ErrRing, 1},
 		{rules + "over r s;over s r;", api.ErrRing, 1}, {rules + "over r s;over s u;over u r;", api.ErrRing, 1}, {rules + "over u s;over s u;over r s;", api.ErrRing, 1}, {rules + "over r s;over s u;over r u;", api.OK, 0},
 		{same + overs, api.OK, 0}, {same + overs + "over h a;", api.ErrRing, 1}, {same + overs + "over h g;", api.ErrRing, 1}, {same + overs + "over a h;", api.OK, 0},
 		{"rule r:c=1 when has c;rule s:c=1 when always;over r s;over s r;", api.ErrRing, 0}, {"rule c:d=1 when always;rule d:c=1 when has d;", api.OK, 0}, {"num x 0..1;rule x:c=x when x<1;", api.OK, 0},
