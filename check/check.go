@@ -5,29 +5,36 @@ package check
 import (
 	"statute/api"
 	"statute/book"
+	"statute/links"
 )
 
-// Lines tells the first error of a rulebook's lines, and its place: the number
-// of a line, or which kind of ring there is.
-func Lines(lines []book.Line) (api.Errno, int) {
+// Fault is an error, or OK, and its place: the number of a line, or which kind
+// of ring there is.
+type Fault struct {
+	Err   api.Errno
+	Place int
+}
+
+// Lines tells the first fault of a rulebook's lines.
+func Lines(lines []book.Line) Fault {
 	for i := range lines {
 		if isTooMany(lines, i) {
-			return api.ErrMany, i
+			return Fault{api.ErrMany, i}
 		}
 	}
 	for i := range lines {
 		err := lineError(lines, i)
 		if err != api.OK {
-			return err, i
+			return Fault{err, i}
 		}
 	}
-	conclusions := conclusionGraph(lines)
-	if conclusions.HasRing() {
-		return api.ErrRing, 0
+	naming := links.Naming(lines)
+	if naming.HasRing() {
+		return Fault{api.ErrRing, 0}
 	}
-	rules := ruleGraph(lines)
-	if rules.HasRing() {
-		return api.ErrRing, 1
+	order := links.Order(lines)
+	if order.HasRing() {
+		return Fault{api.ErrRing, 1}
 	}
-	return api.OK, 0
+	return Fault{api.OK, 0}
 }

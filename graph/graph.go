@@ -41,10 +41,73 @@ func (g *Graph) chains() Graph {
 // HasRing tells whether a chain of arrows leads from a point back to it.
 func (g *Graph) HasRing() bool {
 	chains := g.chains()
+	return chains.firstLoop() < size
+}
+
+// firstLoop tells the first point with an arrow to itself, or size.
+func (g *Graph) firstLoop() int {
 	for at := 0; at < size; at++ {
-		if chains.arrows[at][at] {
-			return true
+		if g.arrows[at][at] {
+			return at
 		}
 	}
-	return false
+	return size
+}
+
+// Ring tells the points of a ring, none twice, each with an arrow to the next
+// one and the last with one to the first; or nothing, if there is no ring.
+func (g *Graph) Ring() []int {
+	chains := g.chains()
+	at := chains.firstLoop()
+	if at == size {
+		return []int{}
+	}
+	// From each point the walk goes on in one way alone, so after as many steps
+	// as there are points it only goes round.
+	for step := 0; step < size; step++ {
+		at = g.nextInRing(chains, at)
+	}
+	ring := []int{at}
+	next := g.nextInRing(chains, at)
+	for next != at && len(ring) < size {
+		ring = append(ring, next)
+		next = g.nextInRing(chains, next)
+	}
+	return ring
+}
+
+// nextInRing tells the first point to which an arrow leads from this one, and
+// from which a chain leads back. A point of a ring has one.
+func (g *Graph) nextInRing(chains Graph, at int) int {
+	for next := 0; next < size; next++ {
+		if g.arrows[at][next] && chains.arrows[next][at] {
+			return next
+		}
+	}
+	return at
+}
+
+// Levels tells the level of each point of a graph that has no ring: 0, if no
+// arrow leads from it; else one more than the highest level of those to which
+// its arrows lead.
+func (g *Graph) Levels() [size]int {
+	levels := [size]int{}
+	// Each round sets one level more aright, beginning with 1, and with no ring
+	// the highest one is below size.
+	for round := 1; round < size; round++ {
+		for at := 0; at < size; at++ {
+			levels[at] = g.levelAbove(levels, at)
+		}
+	}
+	return levels
+}
+
+func (g *Graph) levelAbove(levels [size]int, at int) int {
+	level := 0
+	for to := 0; to < size; to++ {
+		if g.arrows[at][to] && levels[to] >= level {
+			level = levels[to] + 1
+		}
+	}
+	return level
 }

@@ -1,6 +1,9 @@
 package graph
 
-import "testing"
+import (
+	"math/rand"
+	"testing"
+)
 
 func TestHasRing(t *testing.T) {
 	for _, c := range []struct {
@@ -55,5 +58,75 @@ func TestAllSmall(t *testing.T) {
 		if want := walks != [3]bool{}; g.HasRing() != want {
 			t.Errorf("HasRing of the graph %09b = %v", bits, !want)
 		}
+	}
+}
+
+// isRing tells whether points are a ring of a graph.
+func isRing(g Graph, points []int) bool {
+	seen := [size]bool{}
+	for i, at := range points {
+		if at < 0 || at >= size || seen[at] || !g.arrows[at][points[(i+1)%len(points)]] {
+			return false
+		}
+		seen[at] = true
+	}
+	return len(points) > 0
+}
+
+// level tells the longest chain from a point of a graph that has no ring.
+func level(g Graph, at int) int {
+	most := 0
+	for to := range g.arrows[at] {
+		if g.arrows[at][to] {
+			most = max(most, 1+level(g, to))
+		}
+	}
+	return most
+}
+
+func look(t *testing.T, g Graph) {
+	t.Helper()
+	ring, before := g.Ring(), g
+	if g.HasRing() != (len(ring) > 0) || g.HasRing() && !isRing(g, ring) {
+		t.Errorf("Ring of %v = %v", g.arrows, ring)
+	}
+	levels := g.Levels() // it ends at rings too
+	for at := 0; at < size && len(ring) == 0; at++ {
+		if want := level(g, at); levels[at] != want {
+			t.Errorf("Levels of %v = %v, but %d has %d", g.arrows, levels, at, want)
+		}
+	}
+	if g != before {
+		t.Errorf("Ring or Levels changed the graph %v", before.arrows)
+	}
+}
+
+// TestRingAndLevels looks at all graphs of the first four points, the same of
+// every second point, and some of all points.
+func TestRingAndLevels(t *testing.T) {
+	for bits := 0; bits < 1<<16; bits++ {
+		first, second := Graph{}, Graph{}
+		for i := 0; i < 16; i++ {
+			if bits>>i&1 == 1 {
+				first.Add(i/4, i%4)
+				second.Add(i/4*2+1, i%4*2+1)
+			}
+		}
+		look(t, first)
+		look(t, second)
+	}
+	source := rand.New(rand.NewSource(1))
+	for i := 0; i < 20000; i++ {
+		g, order := Graph{}, source.Perm(size)
+		for arrow := source.Intn(20); arrow > 0; arrow-- {
+			from, to := source.Intn(size), source.Intn(size)
+			if i%2 == 0 && order[from] < order[to] {
+				from, to = to, from
+			}
+			if i%2 == 1 || from != to {
+				g.Add(from, to)
+			}
+		}
+		look(t, g)
 	}
 }

@@ -1,7 +1,9 @@
 package statute_test
 
 import (
+	"fmt"
 	"math/rand"
+	"slices"
 	"strconv"
 	"strings"
 	"testing"
@@ -10,7 +12,7 @@ import (
 	"statute/statute"
 )
 
-// compare puts a text to Check and Tidy and to the reference, and tells the error.
+// compare puts a text to the calls and to the reference, and tells Check's error.
 func compare(t *testing.T, src string) api.Errno {
 	t.Helper()
 	err, place := statute.Check(src)
@@ -24,7 +26,36 @@ func compare(t *testing.T, src string) api.Errno {
 	if tidyErr == api.OK && len(text) <= api.MaxText {
 		tidyAgain(t, text, err, place)
 	}
+	compareRing(t, src)
+	compareLoad(t, src, err)
 	return err
+}
+
+func compareRing(t *testing.T, src string) {
+	t.Helper()
+	ring, err := statute.Ring(src)
+	if e, ok := refRing(src, ring); err != e || !ok {
+		t.Errorf("P5: Ring(%q) = %q, %d, want the error %d", src, ring, err, e)
+	}
+}
+
+// compareLoad knows Check's error of the text.
+func compareLoad(t *testing.T, src string, checked api.Errno) {
+	t.Helper()
+	strict, err := statute.Load(src, true)
+	if (strict == nil) != (err != api.OK) || err != checked && (checked != api.OK || err != api.ErrClash) {
+		t.Errorf("P6: Load(%q, true) = %d, a Base: %v, want %d", src, err, strict != nil, checked)
+	}
+	base, err := statute.Load(src, false)
+	if (base == nil) != (err != api.OK) || err != checked {
+		t.Errorf("P6: Load(%q, false) = %d, a Base: %v, want %d", src, err, base != nil, checked)
+	}
+	if base == nil {
+		return
+	}
+	if got, want := base.Levels(), refLevels(src); !slices.Equal(got, want) {
+		t.Errorf("P7: Levels of %q = %v, want %v", src, got, want)
+	}
 }
 
 // tidyAgain asks that a tidy text stays as it is, and that no error comes by
@@ -82,6 +113,11 @@ func TestAnyBytes(t *testing.T) {
 		}
 		err, place := statute.Check(text)
 		out, tidyErr := statute.Tidy(text)
+		ring, ringErr := statute.Ring(text)
+		base, loadErr := statute.Load(text, false)
+		if (ringErr != api.OK && len(ring) > 0) || loadErr != err || (base == nil) != (err != api.OK) {
+			t.Errorf("P1: %.60q, %d bytes: Ring %q, %d, Load %d, Check %d", text, len(text), ring, ringErr, loadErr, err)
+		}
 		if (tidyErr != api.OK && out != "") || (tidyErr == api.ErrForm) != (err == api.ErrForm) || (err == api.ErrLong) != (len(text) > api.MaxText) || place < 0 || place > len(text) {
 			t.Errorf("P1: %.60q, %d bytes: Check %d, %d, Tidy %.60q, %d", text, len(text), err, place, out, tidyErr)
 		}
@@ -209,14 +245,17 @@ func TestSameAgain(t *testing.T) {
 		texts = append(texts, m.text())
 	}
 	type answer struct {
-		err, tidyErr api.Errno
-		place        int
-		text         string
+		err, tidyErr, ringErr, loadErr api.Errno
+		place                          int
+		text, ring, levels             string
 	}
 	ask := func(src string) answer {
 		text, tidyErr := statute.Tidy(src)
 		err, place := statute.Check(src)
-		return answer{err, tidyErr, place, text}
+		ring, ringErr := statute.Ring(src)
+		base, loadErr := statute.Load(src, false)
+		levels := fmt.Sprint(base.Levels())
+		return answer{err, tidyErr, ringErr, loadErr, place, text, fmt.Sprint(ring), levels}
 	}
 	first := []answer{}
 	for _, src := range texts {

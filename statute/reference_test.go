@@ -2,15 +2,16 @@ package statute_test
 
 import (
 	"regexp"
+	"slices"
 	"strconv"
 	"strings"
 
 	"statute/api"
 )
 
-// This file answers Check and Tidy a second time, by other means and slowly:
-// the form by an Earley recogniser of the document's grammar, the rest by going
-// over rows of tokens. The tests compare the program with it.
+// This file answers Check, Tidy, Ring and Levels a second time, by other means
+// and slowly: the form by an Earley recogniser of the document's grammar, the
+// rest by going over rows of tokens. The tests compare the program with it.
 
 const grammar = `
 book = 
@@ -400,7 +401,9 @@ func inRing(arrows map[string][]string, start string) bool {
 	return false
 }
 
-func refRings(lines [][]string) (api.Errno, int) {
+// refArrows tells which conclusion names which words of its rules' sums and
+// behind `has`, and which rule is put over which.
+func refArrows(lines [][]string) (map[string][]string, map[string][]string) {
 	names, overs := map[string][]string{}, map[string][]string{}
 	for _, line := range lines {
 		switch line[0] {
@@ -417,6 +420,11 @@ func refRings(lines [][]string) (api.Errno, int) {
 			overs[line[1]] = append(overs[line[1]], line[2])
 		}
 	}
+	return names, overs
+}
+
+func refRings(lines [][]string) (api.Errno, int) {
+	names, overs := refArrows(lines)
 	for name := range names {
 		if inRing(names, name) {
 			return api.ErrRing, 0
@@ -446,4 +454,53 @@ func refCheck(src string) (api.Errno, int) {
 		return err, i
 	}
 	return refRings(lines)
+}
+
+// isRing tells whether a list is a ring of arrows.
+func isRing(arrows map[string][]string, list []string) bool {
+	seen := map[string]bool{}
+	for i, name := range list {
+		if seen[name] || !slices.Contains(arrows[name], list[(i+1)%len(list)]) {
+			return false
+		}
+		seen[name] = true
+	}
+	return len(list) > 0
+}
+
+// refRing tells the error that Ring answers, and whether a list may stand beside it.
+func refRing(src string, list []string) (api.Errno, bool) {
+	err, place := refCheck(src)
+	switch err {
+	case api.OK:
+		return api.ErrCalm, len(list) == 0
+	case api.ErrRing:
+		names, overs := refArrows(refLines(refTokens(src)))
+		return api.OK, place == 0 && isRing(names, list) || place == 1 && isRing(overs, list)
+	}
+	return err, len(list) == 0
+}
+
+// refLevels tells the levels of a rulebook that has no error.
+func refLevels(src string) []api.Level {
+	lines := refLines(refTokens(src))
+	names, _ := refArrows(lines)
+	list, seen := []api.Level{}, map[string]bool{}
+	for _, line := range lines {
+		if line[0] == "rule" && !seen[line[3]] {
+			seen[line[3]] = true
+			list = append(list, api.Level{Name: line[3], Level: refLevel(names, line[3])})
+		}
+	}
+	return list
+}
+
+func refLevel(names map[string][]string, name string) int {
+	level := 0
+	for _, word := range names[name] {
+		if _, ok := names[word]; ok { // words that are no conclusion name nothing
+			level = max(level, 1+refLevel(names, word))
+		}
+	}
+	return level
 }

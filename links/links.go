@@ -1,13 +1,16 @@
-package check
+// Package links tells which conclusion of a rulebook names which, which rule is
+// put over which, and what follows from that alone: rings and levels.
+package links
 
 import (
+	"statute/api"
 	"statute/book"
 	"statute/graph"
 )
 
-// conclusionGraph has an arrow from each conclusion to those that it names. The
-// points are the conclusions in their order.
-func conclusionGraph(lines []book.Line) graph.Graph {
+// Naming has an arrow from each conclusion to those that it names. The points
+// are the conclusions in their order.
+func Naming(lines []book.Line) graph.Graph {
 	names := conclusions(lines)
 	found := graph.Graph{}
 	for _, line := range lines {
@@ -29,9 +32,9 @@ func conclusionGraph(lines []book.Line) graph.Graph {
 	return found
 }
 
-// ruleGraph has an arrow from each rule to those that it is put over. The points
+// Order has an arrow from each rule to those that it is put over. The points
 // are the rules in the order of the text.
-func ruleGraph(lines []book.Line) graph.Graph {
+func Order(lines []book.Line) graph.Graph {
 	labels := ruleLabels(lines)
 	found := graph.Graph{}
 	for _, line := range lines {
@@ -39,6 +42,33 @@ func ruleGraph(lines []book.Line) graph.Graph {
 			upper := find(labels, line.Name)
 			lower := find(labels, line.Lower)
 			found.Add(upper, lower)
+		}
+	}
+	return found
+}
+
+// Ring tells a ring of conclusions, if there is one; else one of rules, or
+// nothing.
+func Ring(lines []book.Line) []string {
+	naming := Naming(lines)
+	points := naming.Ring()
+	if len(points) > 0 {
+		return pick(conclusions(lines), points)
+	}
+	order := Order(lines)
+	points = order.Ring()
+	return pick(ruleLabels(lines), points)
+}
+
+// Levels tells the conclusions in their order, each with its level. There is no
+// ring of them.
+func Levels(lines []book.Line) []api.Level {
+	naming := Naming(lines)
+	levels := naming.Levels()
+	found := []api.Level{}
+	for i, name := range conclusions(lines) {
+		if i < len(levels) {
+			found = append(found, api.Level{Name: name, Level: levels[i]})
 		}
 	}
 	return found
@@ -73,4 +103,15 @@ func find(names []string, name string) int {
 		}
 	}
 	return -1
+}
+
+// pick tells the names of points.
+func pick(names []string, points []int) []string {
+	picked := []string{}
+	for _, at := range points {
+		if 0 <= at && at < len(names) {
+			picked = append(picked, names[at])
+		}
+	}
+	return picked
 }
