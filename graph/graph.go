@@ -22,9 +22,14 @@ func (g *Graph) Add(from int, to int) {
 
 func isPoint(at int) bool { return 0 <= at && at < size }
 
-// chains tells the graph that has an arrow wherever this one has a chain of
+// Has tells whether there is an arrow; from or to no point there is none.
+func (g *Graph) Has(from int, to int) bool {
+	return isPoint(from) && isPoint(to) && g.arrows[from][to]
+}
+
+// Chains tells the graph that has an arrow wherever this one has a chain of
 // arrows, one or more.
-func (g *Graph) chains() Graph {
+func (g *Graph) Chains() Graph {
 	found := *g
 	for middle := 0; middle < size; middle++ {
 		for from := 0; from < size; from++ {
@@ -40,7 +45,7 @@ func (g *Graph) chains() Graph {
 
 // HasRing tells whether a chain of arrows leads from a point back to it.
 func (g *Graph) HasRing() bool {
-	chains := g.chains()
+	chains := g.Chains()
 	return chains.firstLoop() < size
 }
 
@@ -57,7 +62,7 @@ func (g *Graph) firstLoop() int {
 // Ring tells the points of a ring, none twice, each with an arrow to the next
 // one and the last with one to the first; or nothing, if there is no ring.
 func (g *Graph) Ring() []int {
-	chains := g.chains()
+	chains := g.Chains()
 	at := chains.firstLoop()
 	if at == size {
 		return []int{}

@@ -130,3 +130,37 @@ func TestRingAndLevels(t *testing.T) {
 		look(t, g)
 	}
 }
+
+// TestChains compares Chains with walks of one to eight steps, at made graphs;
+// there is no arrow at places that are no points.
+func TestChains(t *testing.T) {
+	source := rand.New(rand.NewSource(6))
+	for i := 0; i < 300; i++ {
+		g := Graph{}
+		for arrow := source.Intn(14); arrow > 0; arrow-- {
+			g.Add(source.Intn(8), source.Intn(8))
+		}
+		chains := g.Chains()
+		for from := -1; from <= 8; from++ {
+			reached := map[int]bool{}
+			last := map[int]bool{from: true}
+			for step := 0; step < 8; step++ {
+				next := map[int]bool{}
+				for at := range last {
+					for to := 0; to < 8; to++ {
+						if g.Has(at, to) {
+							next[to] = true
+							reached[to] = true
+						}
+					}
+				}
+				last = next
+			}
+			for to := -1; to <= 8; to++ {
+				if chains.Has(from, to) != reached[to] {
+					t.Errorf("%v: a chain from %d to %d: %v", g, from, to, !reached[to])
+				}
+			}
+		}
+	}
+}

@@ -47,6 +47,12 @@ func Order(lines []book.Line) graph.Graph {
 	return found
 }
 
+// Above has an arrow from each rule to those that it stands above.
+func Above(lines []book.Line) graph.Graph {
+	order := Order(lines)
+	return order.Chains()
+}
+
 // Ring tells a ring of conclusions, if there is one; else one of rules, or
 // nothing.
 func Ring(lines []book.Line) []string {

@@ -56,6 +56,7 @@ func compareLoad(t *testing.T, src string, checked api.Errno) {
 	if got, want := base.Levels(), refLevels(src); !slices.Equal(got, want) {
 		t.Errorf("P7: Levels of %q = %v, want %v", src, got, want)
 	}
+	compareCases(t, src, base)
 }
 
 // tidyAgain asks that a tidy text stays as it is, and that no error comes by
@@ -247,15 +248,20 @@ func TestSameAgain(t *testing.T) {
 	type answer struct {
 		err, tidyErr, ringErr, loadErr api.Errno
 		place                          int
-		text, ring, levels             string
+		text, ring, levels, outcome    string
 	}
 	ask := func(src string) answer {
 		text, tidyErr := statute.Tidy(src)
 		err, place := statute.Check(src)
 		ring, ringErr := statute.Ring(src)
 		base, loadErr := statute.Load(src, false)
-		levels := fmt.Sprint(base.Levels())
-		return answer{err, tidyErr, ringErr, loadErr, place, text, fmt.Sprint(ring), levels}
+		levels, outcome := fmt.Sprint(base.Levels()), ""
+		for _, facts := range []string{"", "x=2;y=1;f=yes;g=no;", "age=20;pay=500;vet=yes;", "f"} {
+			verdicts, weighErr := base.Weigh(facts)
+			answers, evalErr := base.Eval(facts)
+			outcome += fmt.Sprint(verdicts, weighErr, answers, evalErr)
+		}
+		return answer{err, tidyErr, ringErr, loadErr, place, text, fmt.Sprint(ring), levels, outcome}
 	}
 	first := []answer{}
 	for _, src := range texts {

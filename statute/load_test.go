@@ -5,6 +5,7 @@ import (
 	"slices"
 	"strings"
 	"testing"
+	"unsafe"
 
 	"statute/api"
 	"statute/statute"
@@ -121,5 +122,26 @@ func TestLevelsFresh(t *testing.T) {
 	statute.Ring(src)
 	if second, third := base.Levels(), other.Levels(); !slices.Equal(first, want) || !slices.Equal(second, want) || !slices.Equal(third, want) {
 		t.Errorf("P2: Levels = %v, and %v, %v and %v when others were written into", want, first, second, third)
+	}
+}
+
+// TestTextNotKept: no name that comes out of a Base lies in the text that it was
+// loaded from.
+func TestTextNotKept(t *testing.T) {
+	src := strings.Clone(T)
+	base, _ := statute.Load(src, false)
+	facts := strings.Clone("age=20;pay=500;vet=yes;")
+	answers, _ := base.Eval(facts)
+	verdicts, _ := base.Weigh(facts)
+	names := []string{base.Levels()[0].Name, answers[0].Name}
+	for _, verdict := range verdicts {
+		names = append(names, verdict.Rule)
+	}
+	from := uintptr(unsafe.Pointer(unsafe.StringData(src)))
+	for _, name := range names {
+		at := uintptr(unsafe.Pointer(unsafe.StringData(name)))
+		if from <= at && at < from+uintptr(len(src)) {
+			t.Errorf("P2: the name %q lies in the text", name)
+		}
 	}
 }

@@ -4,15 +4,18 @@ package statute
 import (
 	"statute/api"
 	"statute/book"
+	"statute/cases"
 	"statute/check"
 	"statute/links"
+	"statute/model"
+	"statute/outcome"
 	"statute/tidy"
 )
 
 // Base is a rulebook that was loaded.
 type Base struct {
-	loaded bool        // by Load, so it takes facts
-	levels []api.Level // of the conclusions, in their order
+	loaded bool // by Load, so it takes facts
+	model  model.Model
 }
 
 // Check tells whether a text is a rulebook, and if not, where (P4).
@@ -61,12 +64,7 @@ func Load(src string, strict bool) (*Base, api.Errno) {
 	if fault.Err != api.OK {
 		return nil, fault.Err
 	}
-	levels := links.Levels(reading.Lines)
-	for i := range levels {
-		// A name of its own, for the Base shall not keep the text.
-		levels[i].Name = string([]byte(levels[i].Name))
-	}
-	return &Base{loaded: true, levels: levels}, api.OK
+	return &Base{loaded: true, model: model.Make(reading.Lines)}, api.OK
 }
 
 // Levels tells the levels of the conclusions (P7).
@@ -75,27 +73,39 @@ func (b *Base) Levels() []api.Level {
 	if b == nil {
 		return levels
 	}
-	for _, level := range b.levels {
+	for _, level := range b.model.Conclusions {
 		levels = append(levels, level)
 	}
 	return levels
 }
 
-// Weigh tells how it stands with each rule in a case (P8). Of a loaded Base it
-// answers nothing yet.
+// Weigh tells how it stands with each rule in a case (P8).
 func (b *Base) Weigh(facts string) ([]api.Verdict, api.Errno) {
-	if b == nil || !b.loaded {
-		return nil, api.ErrBase
-	}
-	return nil, api.OK
+	found := b.hear(facts)
+	return found.outcome.Verdicts, found.err
 }
 
-// Eval tells what a case leads to (P8). Of a loaded Base it answers nothing yet.
+// Eval tells what a case leads to (P8).
 func (b *Base) Eval(facts string) ([]api.Answer, api.Errno) {
+	found := b.hear(facts)
+	return found.outcome.Answers, found.err
+}
+
+// finding is what facts lead to, or the error.
+type finding struct {
+	outcome outcome.Outcome
+	err     api.Errno
+}
+
+func (b *Base) hear(facts string) finding {
 	if b == nil || !b.loaded {
-		return nil, api.ErrBase
+		return finding{err: api.ErrBase}
 	}
-	return nil, api.OK
+	reading := cases.Read(facts, &b.model)
+	if reading.Err != api.OK {
+		return finding{err: reading.Err}
+	}
+	return finding{outcome: outcome.Of(&b.model, reading.Inputs)}
 }
 
 // Clash tells two rules that can clash, and how (P9). It answers nothing yet.
