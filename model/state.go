@@ -18,10 +18,10 @@ func (r Rule) Applies(s State) bool {
 			return false
 		}
 	}
-	holds := []bool{}
-	for _, n := range r.guard {
+	holds := make([]bool, len(r.guard))
+	for i, n := range r.guard {
 		now := n.holds(s, holds)
-		holds = append(holds, now)
+		holds[i] = now
 	}
 	return isTrue(holds, r.root)
 }

@@ -42,10 +42,7 @@ func compareRing(t *testing.T, src string) {
 // compareLoad knows Check's error of the text.
 func compareLoad(t *testing.T, src string, checked api.Errno) {
 	t.Helper()
-	strict, err := statute.Load(src, true)
-	if (strict == nil) != (err != api.OK) || err != checked && (checked != api.OK || err != api.ErrClash) {
-		t.Errorf("P6: Load(%q, true) = %d, a Base: %v, want %d", src, err, strict != nil, checked)
-	}
+	compareClash(t, src, checked)
 	base, err := statute.Load(src, false)
 	if (base == nil) != (err != api.OK) || err != checked {
 		t.Errorf("P6: Load(%q, false) = %d, a Base: %v, want %d", src, err, base != nil, checked)
@@ -57,6 +54,31 @@ func compareLoad(t *testing.T, src string, checked api.Errno) {
 		t.Errorf("P7: Levels of %q = %v, want %v", src, got, want)
 	}
 	compareCases(t, src, base)
+}
+
+// compareClash knows Check's error of the text, and tells Clash's.
+func compareClash(t *testing.T, src string, checked api.Errno) api.Errno {
+	t.Helper()
+	lines, pair := refLines(refTokens(src)), []string(nil)
+	want, strictWant := checked, checked
+	if checked == api.OK {
+		pair, want = refClash(lines), api.ErrCalm
+		if pair != nil {
+			want, strictWant = api.OK, api.ErrClash
+		}
+	}
+	labels, setting, err := statute.Clash(src)
+	if err != want || !slices.Equal(labels, pair) {
+		t.Errorf("P9: Clash(%q) = %q, %v, %d, want %q, %d", src, labels, setting, err, pair, want)
+	}
+	if err != api.OK && len(setting) > 0 || err == api.OK && !refIsSetting(lines, setting, labels) {
+		t.Errorf("P9: Clash(%q) = %q, %d, and the setting %v", src, labels, err, setting)
+	}
+	strict, err := statute.Load(src, true)
+	if err != strictWant || (strict == nil) != (err != api.OK) {
+		t.Errorf("P6: Load(%q, true) = %d, a Base: %v, want %d", src, err, strict != nil, strictWant)
+	}
+	return want
 }
 
 // tidyAgain asks that a tidy text stays as it is, and that no error comes by
@@ -97,8 +119,8 @@ func TestOneByteOff(t *testing.T) {
 	}
 }
 
-// TestAnyBytes: Check and Tidy end and don't panic, and with an error there is
-// no text (P1).
+// TestAnyBytes: calls end and don't panic, and with an error there is nothing
+// else (P1).
 func TestAnyBytes(t *testing.T) {
 	source := rand.New(rand.NewSource(1))
 	for i := 0; i < 3000; i++ {
@@ -116,6 +138,10 @@ func TestAnyBytes(t *testing.T) {
 		out, tidyErr := statute.Tidy(text)
 		ring, ringErr := statute.Ring(text)
 		base, loadErr := statute.Load(text, false)
+		labels, setting, clashErr := statute.Clash(text)
+		if clashErr != api.OK && len(labels)+len(setting) > 0 || err != api.OK && clashErr != err {
+			t.Errorf("P1: %.60q, %d bytes: Clash %q, %v, %d, Check %d", text, len(text), labels, setting, clashErr, err)
+		}
 		if (ringErr != api.OK && len(ring) > 0) || loadErr != err || (base == nil) != (err != api.OK) {
 			t.Errorf("P1: %.60q, %d bytes: Ring %q, %d, Load %d, Check %d", text, len(text), ring, ringErr, loadErr, err)
 		}
@@ -246,14 +272,16 @@ func TestSameAgain(t *testing.T) {
 		texts = append(texts, m.text())
 	}
 	type answer struct {
-		err, tidyErr, ringErr, loadErr api.Errno
-		place                          int
-		text, ring, levels, outcome    string
+		err, tidyErr, ringErr, loadErr, strictErr api.Errno
+		place                                     int
+		text, ring, levels, outcome, clash        string
 	}
 	ask := func(src string) answer {
 		text, tidyErr := statute.Tidy(src)
 		err, place := statute.Check(src)
 		ring, ringErr := statute.Ring(src)
+		clash := fmt.Sprint(statute.Clash(src))
+		_, strictErr := statute.Load(src, true)
 		base, loadErr := statute.Load(src, false)
 		levels, outcome := fmt.Sprint(base.Levels()), ""
 		for _, facts := range []string{"", "x=2;y=1;f=yes;g=no;", "age=20;pay=500;vet=yes;", "f"} {
@@ -261,7 +289,7 @@ func TestSameAgain(t *testing.T) {
 			answers, evalErr := base.Eval(facts)
 			outcome += fmt.Sprint(verdicts, weighErr, answers, evalErr)
 		}
-		return answer{err, tidyErr, ringErr, loadErr, place, text, fmt.Sprint(ring), levels, outcome}
+		return answer{err, tidyErr, ringErr, loadErr, strictErr, place, text, fmt.Sprint(ring), levels, outcome, clash}
 	}
 	first := []answer{}
 	for _, src := range texts {

@@ -181,7 +181,7 @@ func refOutcome(lines [][]string, facts string) ([]api.Verdict, []api.Answer, ap
 	if err != api.OK {
 		return nil, nil, err
 	}
-	c := refCase{lines, given}
+	c := refCase{lines: lines, given: given}
 	verdicts, answers, seen := []api.Verdict{}, []api.Answer{}, map[string]bool{}
 	for _, line := range lines {
 		if line[0] != "rule" {

@@ -6,6 +6,7 @@ import (
 	"statute/book"
 	"statute/cases"
 	"statute/check"
+	"statute/clash"
 	"statute/links"
 	"statute/model"
 	"statute/outcome"
@@ -53,18 +54,37 @@ func Ring(src string) ([]string, api.Errno) {
 	return links.Ring(reading.Lines), api.OK
 }
 
-// Load loads a rulebook (P6). Whether rules can clash is not asked yet, so
-// strict makes no difference.
+// Load loads a rulebook (P6).
 func Load(src string, strict bool) (*Base, api.Errno) {
+	made := read(src)
+	if made.err != api.OK {
+		return nil, made.err
+	}
+	if strict {
+		found := clash.Find(&made.model)
+		if len(found.Labels) > 0 {
+			return nil, api.ErrClash
+		}
+	}
+	return &Base{loaded: true, model: made.model}, api.OK
+}
+
+// making is what came of a text: the model of a rulebook, or the error of Check.
+type making struct {
+	model model.Model
+	err   api.Errno
+}
+
+func read(src string) making {
 	reading := book.Read(src)
 	if reading.Err != api.OK {
-		return nil, reading.Err
+		return making{err: reading.Err}
 	}
 	fault := check.Lines(reading.Lines)
 	if fault.Err != api.OK {
-		return nil, fault.Err
+		return making{err: fault.Err}
 	}
-	return &Base{loaded: true, model: model.Make(reading.Lines)}, api.OK
+	return making{model: model.Make(reading.Lines)}
 }
 
 // Levels tells the levels of the conclusions (P7).
@@ -108,5 +128,15 @@ func (b *Base) hear(facts string) finding {
 	return finding{outcome: outcome.Of(&b.model, reading.Inputs)}
 }
 
-// Clash tells two rules that can clash, and how (P9). It answers nothing yet.
-func Clash(src string) ([]string, []api.Setting, api.Errno) { return nil, nil, api.OK }
+// Clash tells two rules that can clash, and how (P9).
+func Clash(src string) ([]string, []api.Setting, api.Errno) {
+	made := read(src)
+	if made.err != api.OK {
+		return nil, nil, made.err
+	}
+	found := clash.Find(&made.model)
+	if len(found.Labels) == 0 {
+		return nil, nil, api.ErrCalm
+	}
+	return found.Labels, found.Setting, api.OK
+}
